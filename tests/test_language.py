@@ -37,6 +37,10 @@ TypedDict TYPE_CHECKING abstractmethod
 """.split()
 PARTS = ("dataclass", "overload", "contextmanager")
 
+# L23: what is walked on the spot, and what may walk it.
+WALKED = ("zip", "enumerate", "reversed", "range")
+WALKERS = ("list", "tuple", "dict", "sorted", "sum", "any", "all", "enumerate", "zip")
+
 
 def files():
     return sorted(PACKAGE.glob("*.py"))
@@ -48,6 +52,20 @@ def trees():
 
 def nodes(kind):
     return [(path, node) for path, tree in trees() for node in ast.walk(tree) if isinstance(node, kind)]
+
+
+def bound_by(node):
+    if isinstance(node, ast.ImportFrom):
+        return [name.asname or name.name for name in node.names]
+    if isinstance(node, (ast.FunctionDef, ast.ClassDef)):
+        return [node.name]
+    if isinstance(node, ast.Assign):
+        return [node.targets[0].id]
+    return []
+
+
+def names_of_top(tree):
+    return [name for node in tree.body for name in bound_by(node)]
 
 
 class Language(unittest.TestCase):
@@ -120,12 +138,50 @@ class Language(unittest.TestCase):
             self.assertFalse(name.startswith("_"), self.where(path, node))
             self.assertFalse(hasattr(builtins, name), self.where(path, node))
 
+    def test_l15_names_of_a_file(self):
+        for path, tree in trees():
+            top = names_of_top(tree)
+            self.assertEqual(len(top), len(set(top)), path.name)
+            kept = [node for node in tree.body if isinstance(node, (ast.ImportFrom, ast.ClassDef))]
+            taken = [name for node in kept for name in bound_by(node)]
+            stored = [node for node in ast.walk(tree) if isinstance(node, ast.Name) and isinstance(node.ctx, ast.Store)]
+            inner = [node.arg for node in ast.walk(tree) if isinstance(node, ast.arg)] + [node.id for node in stored]
+            self.assertEqual(set(inner) & set(taken), set(), path.name)
+
+    def test_l16_imports_come_from_the_file_that_defines_the_name(self):
+        for path, node in nodes(ast.ImportFrom):
+            source = ast.parse((PACKAGE.parent / (node.module.replace(".", "/") + ".py")).read_text())
+            defined = [name for part in source.body if not isinstance(part, ast.ImportFrom) for name in bound_by(part)]
+            for name in node.names:
+                self.assertIn(name.name, defined, self.where(path, node))
+
+    def test_l16_no_two_files_draw_from_one_another(self):
+        drawn = {path.stem: set() for path in files()}
+        for path, node in nodes(ast.ImportFrom):
+            drawn[path.stem].add(node.module.split(".")[-1])
+        while drawn:
+            free = [name for name in drawn if not drawn[name] & set(drawn)]
+            self.assertNotEqual(free, [], sorted(drawn))
+            drawn = {name: drawn[name] for name in drawn if name not in free}
+
     def test_l20_is_stands_beside_none_and_truths(self):
         for path, node in nodes(ast.Compare):
             for operator, right in zip(node.ops, node.comparators):
                 if isinstance(operator, (ast.Is, ast.IsNot)):
                     self.assertIsInstance(right, ast.Constant, self.where(path, node))
                     self.assertIn(right.value, (None, True, False), self.where(path, node))
+
+    def test_l23_walked_at_once(self):
+        for path, tree in trees():
+            walked = [node.iter for node in ast.walk(tree) if isinstance(node, (ast.For, ast.comprehension))]
+            calls = [node for node in ast.walk(tree) if isinstance(node, ast.Call) and isinstance(node.func, ast.Name)]
+            for node in calls:
+                alone = node.func.id in ("min", "max") and len(node.args) == 1
+                if node.args and (alone or node.func.id in WALKERS):
+                    walked.append(node.args[0])
+            for node in calls:
+                if node.func.id in WALKED:
+                    self.assertIn(node, walked, self.where(path, node))
 
     def test_l25_called_methods(self):
         own = [node.name for path, node in nodes(ast.FunctionDef)]
