@@ -37,6 +37,10 @@ TypedDict TYPE_CHECKING abstractmethod
 """.split()
 PARTS = ("dataclass", "overload", "contextmanager")
 
+# L26: what a value of an object may be called, though Python's own values have it, and what they have.
+FREE_VALUES = "count index title find get join lower upper split strip copy add".split()
+OWN_VALUES = [name for kind in (str, int, list, dict, set, bytes) for name in dir(kind)]
+
 # L23: what is walked on the spot, and what may walk it.
 WALKED = ("zip", "enumerate", "reversed", "range")
 WALKERS = ("list", "tuple", "dict", "sorted", "sum", "any", "all", "enumerate", "zip")
@@ -163,6 +167,30 @@ class Language(unittest.TestCase):
             free = [name for name in drawn if not drawn[name] & set(drawn)]
             self.assertNotEqual(free, [], sorted(drawn))
             drawn = {name: drawn[name] for name in drawn if name not in free}
+
+    def test_l18_no_name_is_a_method_and_a_value(self):
+        methods = []
+        for path, node in nodes(ast.ClassDef):
+            names = [part.name for part in node.body if isinstance(part, ast.FunctionDef)]
+            self.assertEqual(len(names), len(set(names)), self.where(path, node))
+            methods += names
+        for path, node in nodes(ast.Attribute):
+            if isinstance(node.ctx, ast.Store):
+                self.assertNotIn(node.attr, methods, self.where(path, node))
+
+    def test_l18_and_l26_values(self):
+        for path, node in nodes(ast.Attribute):
+            if isinstance(node.ctx, ast.Store):
+                self.assertIsInstance(node.value, ast.Name, self.where(path, node))
+                self.assertNotEqual(node.attr, "args", self.where(path, node))
+                if node.attr not in FREE_VALUES:
+                    self.assertNotIn(node.attr, OWN_VALUES, self.where(path, node))
+
+    def test_l26_methods(self):
+        for path, node in nodes(ast.ClassDef):
+            for part in node.body:
+                if isinstance(part, ast.FunctionDef) and part.name not in METHODS + ["__init__", "add", "discard"]:
+                    self.assertNotIn(part.name, OWN_VALUES, self.where(path, part))
 
     def test_l20_is_stands_beside_none_and_truths(self):
         for path, node in nodes(ast.Compare):
