@@ -102,6 +102,9 @@ class Machine:
     def channels(self):
         return [list(matrices) for matrices in self.lying]
 
+    def numbers_lying(self):
+        return [len(matrices) for matrices in self.lying]
+
     def gathered(self):
         return list(self.line)
 
